@@ -1,0 +1,1 @@
+"""Gatetown: a whole small computer, from gates to a shell."""
