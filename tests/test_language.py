@@ -147,8 +147,10 @@ def name_faults(tree, methods):
             faults.append("L12 name " + name)
         if name in BARRED_NAMES:
             faults.append("L17 name " + name)
+    tops = [node.name for node in tree.body if isinstance(node, ast.ClassDef)]
+    tops.extend(one.name for node in tree.body if isinstance(node, ast.ImportFrom) for one in node.names)
     for name in local_names(tree):
-        if hasattr(builtins, name):
+        if hasattr(builtins, name) or name in tops:
             faults.append("L15 name " + name)
     for node in ast.walk(tree):
         if isinstance(node, ast.Name) and node.id not in bound and node.id not in OWN_NAMES:
@@ -196,6 +198,7 @@ BAD = [
     ("def f(hash):\n    return hash\n", "L15 name hash"), ("def f():\n    return chr(1)\n", "L8 name chr"),
     ("class A:\n    x = 1\n", "L5 body"), ("# a type\n", "L17 word"), ("# " + "a" * 120 + "\n", "L10 row"),
     ("def f():\n" + "    f()\n" * 40, "L10 function"), ("x = 1\n" * 401, "L10 file"), ("#\t\n", "L14 sign"),
+    ("from gatetown.a import g\ndef f(g):\n    return g\n", "L15 name g"),
     ("def f():\n    _x = 1\n    return _x\n", "L12 name _x"), ("x = 1.5\n", "L7 value"), ("x = '%'\n", "L27 text"),
 ]
 
