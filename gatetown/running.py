@@ -1,6 +1,6 @@
 """Runs of the machine with its memory, the same by gates, and a program's image run by itself."""
 
-from gatetown.machine import A, CALLED, CAUSE, HALTED, LENGTH, MODE, NUMBER, P, SAVED_P
+from gatetown.machine import A, CALLED, CAUSE, HALTED, LENGTH, MODE, NUMBER, P, SAVED_P, WORDS
 from gatetown.machine import asked, beat_of, exchanged, first_state
 from gatetown.processor import net_beats
 
@@ -82,7 +82,7 @@ def behind_call(state, told, left):
     if state[NUMBER] == TELL:
         told.append(a)
     if state[NUMBER] == ASK:
-        a = left.pop(0) if len(left) > 0 else NONE_LEFT
+        a = left.pop(0) % WORDS if len(left) > 0 else NONE_LEFT
     return exchanged(state, [(A, a), (P, state[SAVED_P]), (MODE, 1)])
 
 
