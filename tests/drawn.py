@@ -131,10 +131,13 @@ def cost_of_expr(expr):
     return own + sum(cost_of_expr(one) for one in expr[1:] if isinstance(one, tuple))
 
 
+STATEMENT_COSTS = {"set": 1, "tell": 1, "put": 10, "ask": 2, "do": 1, "stop": 1, "way": 1, "if": 2, "while": 2}
+
+
 def cost_of_body(body):
     cost = 0
     for statement in body:
-        cost += {"set": 1, "tell": 1, "put": 10, "ask": 2, "do": 1, "stop": 1, "way": 1, "if": 2, "while": 2}[statement[0]]
+        cost += STATEMENT_COSTS[statement[0]]
         for one in statement[1:]:
             if isinstance(one, tuple):
                 cost += cost_of_expr(one)

@@ -68,6 +68,8 @@ class KernelCase(unittest.TestCase):
     def laid(self, module, records, now, memory):
         words = dict(enumerate(linked([module])[0]))
         table = module[3]["table"]
+        # Words behind the kernel that would be tasks that are going, were the table longer.
+        words.update({place: 1 for place in range(len(words), 1000)})
         words.update(memory)
         for task, record in enumerate(records):
             for place, word in enumerate(record):
@@ -95,7 +97,7 @@ class KernelCase(unittest.TestCase):
             self.assertEqual((after[2], after[0], after[1], after[6], after[7]), tuple(wanted[task][:5]))
             self.assertEqual((after[4], after[5], after[8]), (0, 1, quota))
         self.assertEqual({place: word for place, word in left.items() if place >= length},
-                         {place: word for place, word in memory.items() if word and place >= length})
+                         {place: word for place, word in words.items() if word and place >= length})
         return beats
 
     def both(self, records, now, saved, memory, quota=7, source=None):
@@ -186,8 +188,9 @@ class StepTest(KernelCase):
                     self.assertEqual(answer[1], (now + 1) % tasks)
 
     def test_tasks_passed_over(self):
-        for hows, now, following in [([1, 0, 2, 1], 0, 3), ([1, 0, 2, 1], 3, 0), ([0, 1, 2, 0], 1, 1), ([2, 2, 1, 1], 3, 2),
-                                     ([1, 2, 2, 2, 0, 0, 0, 1], 0, 7), ([1, 2, 2, 2, 0, 0, 0, 1], 7, 0)]:
+        for hows, now, following in [([1, 0, 2, 1], 0, 3), ([1, 0, 2, 1], 3, 0), ([0, 1, 2, 0], 1, 1),
+                                     ([2, 2, 1, 1], 3, 2), ([1, 2, 2, 2, 0, 0, 0, 1], 0, 7),
+                                     ([1, 2, 2, 2, 0, 0, 0, 1], 7, 0)]:
             answer = self.both(records_of(hows), now, (4, 5, 6, 7, 0), {})
             self.assertEqual(answer[1:], (following, [], False))
             self.assertEqual([record[5] for record in answer[0]], hows)
@@ -226,7 +229,8 @@ class StepTest(KernelCase):
             hows = [source.choice([0, 1, 1, 2]) for _ in range(tasks)]
             now = source.randrange(tasks)
             hows[now] = 1
-            given = [(begin, begin + source.randrange(3)) for begin in [source.randrange(2000, 4000) for _ in range(tasks)]]
+            begins = [source.randrange(2000, 4000) for _ in range(tasks)]
+            given = [(begin, begin + source.randrange(3)) for begin in begins]
             records = records_of(hows, given)
             for record in records:
                 record[:5] = [source.randrange(4096), source.randrange(65536), source.randrange(65536),

@@ -171,7 +171,8 @@ class ListTest(MakingCase):
 
     def test_every_place_is_by_itself(self):
         text = "list xs 5\nnum a\nlist ys 7\nnum b\nmain\nwhile (a<5)\nxs[a] = (a+10)\na = (a+1)\nend\nwhile (b<7)\n" \
-               "ys[b] = (b+20)\nb = (b+1)\nend\na = 0\nwhile (a<5)\ntell xs[a]\na = (a+1)\nend\ntell ys[6]\ntell ys[0]\nend"
+               "ys[b] = (b+20)\nb = (b+1)\nend\na = 0\nwhile (a<5)\ntell xs[a]\na = (a+1)\nend\ntell ys[6]\n" \
+               "tell ys[0]\nend"
         self.assertEqual(self.ask(tree_from(text), [])[0], [10, 11, 12, 13, 14, 26, 20])
 
 
@@ -194,11 +195,13 @@ class StatementTest(MakingCase):
         text = "num n\npart n\nn = (n+1)\ntell n\nend\npart two\ndo n\ndo n\nend\npart none\nend\npart four\ndo two\n" \
                "do none\ndo two\nend\nmain\ndo four\ntell 100\ndo n\nend"
         self.assertEqual(self.ask(tree_from(text), [])[0], [1, 2, 3, 4, 100, 5])
-        text = "part s\ntell 1\nif yes\nstop\nend\ntell 2\nend\npart t\nwhile yes\ndo s\nend\ntell 3\nend\nmain\ndo t\nend"
+        text = "part s\ntell 1\nif yes\nstop\nend\ntell 2\nend\npart t\nwhile yes\ndo s\nend\ntell 3\nend\nmain\n" \
+               "do t\nend"
         self.assertEqual(self.ask(tree_from(text), []), ([1], "ended"))
 
     def test_main_without_statements(self):
-        for text in ["main\nend", "num a\nmain\nend", "part p\ntell 1\nend\nmain\nend", "list x 99\npart p\nend\nmain\nend"]:
+        for text in ["main\nend", "num a\nmain\nend", "part p\ntell 1\nend\nmain\nend",
+                     "list x 99\npart p\nend\nmain\nend"]:
             tree = tree_from(text)
             self.assertEqual(self.ask(tree, []), ([], "ended"))
             image = image_of(tree)[0]
@@ -213,9 +216,9 @@ class StatementTest(MakingCase):
         self.assertEqual(image_of(tree)[1][0], {0: image_of(tree)[1][0][0], 1: 0})
 
     def test_names_like_words_of_rows_and_labels(self):
-        names = ["load", "store", "add", "take", "both", "goto", "zero", "below", "from", "into", "move", "link", "call",
-                 "own", "back", "set", "word", "space", "need", "table", "now", "v", "j", "p", "r", "n", "t", "a", "x",
-                 "fault", "less", "l", "temp", "one", "var", "label"]
+        names = ["load", "store", "add", "take", "both", "goto", "zero", "below", "from", "into", "move", "link",
+                 "call", "own", "back", "set", "word", "space", "need", "table", "now", "v", "j", "p", "r", "n", "t",
+                 "a", "x", "fault", "less", "l", "temp", "one", "var", "label"]
         rows = ["num " + name for name in names]
         for name in names[:12]:
             rows += ["part " + name, name + " = (" + name + "+1)", "tell " + name, "end"]
@@ -239,7 +242,7 @@ class BoundsTest(MakingCase):
     def test_40_variables(self):
         letters = "abcdefghijklmnopqrstuvwxyz"
         names = list(letters) + ["a" + letter for letter in letters[:14]]
-        rows = [("num " if place % 2 else "list ") + name + ("" if place % 2 else " 9") for place, name in enumerate(names)]
+        rows = ["num " + name if place % 2 else "list " + name + " 9" for place, name in enumerate(names)]
         rows += ["main"]
         for place, name in enumerate(names):
             rows += [name + " = " + str(place) if place % 2 else name + "[8] = " + str(place)]
@@ -259,7 +262,8 @@ class BoundsTest(MakingCase):
         self.assertEqual(self.ask(self.deep_parts("abcdefghij", "if yes", ["else", "give way"]), []), ([1, 2], "ended"))
 
     def test_eight_of_each_within_one_another(self):
-        for heads in [["if yes"] * 8, ["while (a<3)"] * 8, ["if yes", "while (a<3)"] * 4, ["while (a<3)", "if yes"] * 4]:
+        for heads in [["if yes"] * 8, ["while (a<3)"] * 8, ["if yes", "while (a<3)"] * 4,
+                      ["while (a<3)", "if yes"] * 4]:
             rows = heads + ["a = (a+1)", "tell a"] + ["end"] * 8 + ["tell 9"]
             self.assertEqual(self.told([], *rows)[-1], 9)
         rows = ["if (a=0)"] * 8 + ["tell 1"] + ["else", "tell 2", "end"] * 8 + ["tell 3"]
@@ -285,9 +289,9 @@ class BoundsTest(MakingCase):
         self.assertEqual(cells_at(memory, tree, cells), meant(tree, [], 40000)[2])
 
     def test_what_lies_beyond_is_not_refused(self):
-        deep = ("name", "n")
+        deep = ("-", ("name", "n"), ("name", "n"))
         for _ in range(12):
-            deep = ("+", ("num", 1), ("-", deep, deep)) if deep[0] == "name" else ("+", ("num", 1), ("+", deep, ("num", 0)))
+            deep = ("+", ("num", 1), ("+", deep, ("num", 0)))
         tree = ([("list", "x", 120), ("num", "n", 1)], [],
                 [("put", "x", ("num", 119), ("num", 4096)), ("tell", ("at", "x", ("num", 119))),
                  ("tell", ("+", ("num", 65535), ("num", 40000))), ("tell", deep)])
@@ -304,7 +308,8 @@ class TooLongTest(MakingCase):
 
     def test_just_where_the_text_has_too_many_words(self):
         seen = {}
-        for rows in [["tell 1"] * 60, ["tell 1"] * 67, ["tell 1"] * 68, ["tell 1", "give way"] * 45, ["tell xaa[1]"] * 30]:
+        for rows in [["tell 1"] * 60, ["tell 1"] * 67, ["tell 1"] * 68, ["tell 1", "give way"] * 45,
+                     ["tell xaa[1]"] * 30]:
             for last in range(90, 100):
                 tree = self.lists([99] * 39 + [last], rows)
                 before = copy.deepcopy(tree)

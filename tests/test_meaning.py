@@ -107,7 +107,8 @@ class ListTest(MeaningCase):
         self.assertEqual(self.ask(tree, [65535], 9)[1], "fault")
 
     def test_a_fault_ends_all(self):
-        tree = tree_from("list x 2\npart p\ntell 1\ntell x[2]\ntell 2\nend\nmain\nwhile yes\nif yes\ndo p\nend\nend\nend")
+        tree = tree_from("list x 2\npart p\ntell 1\ntell x[2]\ntell 2\nend\nmain\nwhile yes\nif yes\ndo p\n"
+                         "end\nend\nend")
         self.assertEqual(self.ask(tree, [], 99)[:2], ([1], "fault"))
 
 
@@ -225,8 +226,8 @@ class StepTest(MeaningCase):
         self.assertEqual(answer[:3], ([5, 6], "ended", cells_with(a=2, b=2, f=1, xs=two)))
 
     def test_numbers_go_by_where_statements_stand(self):
-        text = "part p\ngive way\nif yes\ngive way\nelse\ngive way\nend\nend\nmain\ngive way\ndo p\nwhile no\ngive way\n" \
-               "end\nif no\ngive way\nelse\ngive way\nend\ngive way\nend"
+        text = "part p\ngive way\nif yes\ngive way\nelse\ngive way\nend\nend\nmain\ngive way\ndo p\nwhile no\n" \
+               "give way\nend\nif no\ngive way\nelse\ngive way\nend\ngive way\nend"
         steps = self.ask(tree_from(text), [], 99)[3]
         self.assertEqual([step[0] for step in steps], [4, 5, 0, 1, 2, 6, 8, 10, 11])
 
@@ -266,7 +267,8 @@ class DrawnTest(MeaningCase):
         self.assertEqual(self.ask(tree, [], 2000)[:3], ([1, 2], "ended", {"n": 2}))
 
     def test_what_lies_beyond_is_not_refused(self):
-        tree = ([("list", "x", 120)], [], [("put", "x", ("num", 119), ("num", 70000)), ("tell", ("at", "x", ("num", 119)))])
+        tree = ([("list", "x", 120)], [],
+                [("put", "x", ("num", 119), ("num", 70000)), ("tell", ("at", "x", ("num", 119)))])
         self.assertEqual(meant(tree, [], 9)[:2], ([4464], "ended"))
 
 

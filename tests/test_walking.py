@@ -108,6 +108,15 @@ class OtherwiseTest(unittest.TestCase):
         for change in changes[:2]:
             self.assertIs(self.with_meaning(tree, [2], 60, change), True)
 
+    def test_a_begin_is_come_to_ahead_of_its_first_row(self):
+        tree = tree_with("tell 1", "tell 2")
+        for beats, count in [(0, 0), (1, 1), (2, 1), (3, 1), (4, 1), (5, 2), (6, 2)]:
+            for steps in range(3):
+                def change(told, end, cells, found):
+                    return told, end, cells, meant(tree, [], steps)[3]
+
+                self.assertIs(self.with_meaning(tree, [], beats, change), steps == count, (beats, steps))
+
     def test_words_told_are_counted_and_the_same(self):
         tree = tree_with("tell 1", "tell 2", "tell 3", "tell 4")
         for told in [[], [1], [1, 2, 3], [1, 3], [2, 1]]:
